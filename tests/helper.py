@@ -1,0 +1,179 @@
+"""What several tests need: odd things, wishes, dealings, refusals."""
+
+import copy
+import itertools
+import random
+
+from wishdeal import errors
+
+
+def anything():
+    """Things of any kind, made anew, with none of the program's own forms hidden among them by chance."""
+    return [
+        True, False, None, 0, 1, -1, 7, 10 ** 59,
+        "", "a", "firsts", "copies", "0", " ", b"", b"a",
+        [], [None], [True], [0], [1, 2], [[]], [[0]], [[[0]]], ["a"], [()], [(0, 0)], [[0, 0]], [{}],
+        (), (None,), (0,), (0, 0), (1, 2, 3), ([], []), [[], []], ((), ()), ({}, {}), (None, None, None),
+        {}, {0: 1}, {"a": "b"}, set(), {1}, frozenset(), object(), int, len,
+        [[[[[[0]]]]]], ((((((0,),),),),),),
+    ]
+
+
+def others_than(kept):
+    """Things of any kind of which the test `kept` does not hold."""
+    return [thing for thing in anything() if not kept(thing)]
+
+
+BASE = ([2, 1, 0], [[[0, 1], [2]], [[1], [0]], [], [[2]]])
+
+
+def wrong_wishes():
+    """Things of any kind that are no wishes, each with the part and the number that it is refused with."""
+    rows = [(thing, "wishes", None) for thing in anything()
+            if not (isinstance(thing, tuple) and len(thing) == 2)]
+    rows += [
+        ([[1], [[]]], "wishes", None),
+        (([1],), "wishes", None),
+        (([1], [[]], None), "wishes", None),
+        (([], [[]]), "copies", None),
+        (([], []), "copies", None),
+        (((1,), [[]]), "copies", None),
+        ((None, None), "copies", None),
+        (("1", [[]]), "copies", None),
+        (({0: 1}, [[]]), "copies", None),
+        (([1] * 7, [[]]), "copies", None),
+        (([8] * 7, []), "copies", None),
+        (([8], []), "copies", 0),
+        (([7, 8], [[]]), "copies", 1),
+        (([0, -1, -1], [[]]), "copies", 1),
+        (([0, True], [[]]), "copies", 1),
+        (([False, 1], [[]]), "copies", 0),
+        (([1, None], [[]]), "copies", 1),
+        (([1, 1, "1"], [[]]), "copies", 2),
+        (([1, [1]], [[]]), "copies", 1),
+        (([1], []), "lists", None),
+        (([1], ()), "lists", None),
+        (([1], ([],)), "lists", None),
+        (([1], None), "lists", None),
+        (([1], "a"), "lists", None),
+        (([1], {0: []}), "lists", None),
+        (([1], [[]] * 8), "lists", None),
+        (([1], [None] * 8), "lists", None),
+        (([1], [None]), "lists", 0),
+        (([1], [[], ()]), "lists", 1),
+        (([1], [[], "", {}]), "lists", 1),
+        (([1], [[], [], {}]), "lists", 2),
+        (([1], [[[]]]), "lists", 0),
+        (([1], [[[0], []]]), "lists", 0),
+        (([1], [[(0,)]]), "lists", 0),
+        (([1], [[{0: 0}]]), "lists", 0),
+        (([1], [["0"]]), "lists", 0),
+        (([1], [[0]]), "lists", 0),
+        (([1], [[None]]), "lists", 0),
+        (([1, 1], [[[False]]]), "lists", 0),
+        (([1, 1], [[], [[True]]]), "lists", 1),
+        (([1, 1], [[[0, "1"]]]), "lists", 0),
+        (([1, 1], [[[0, None]]]), "lists", 0),
+        (([1, 1], [[[[0]]]]), "lists", 0),
+        (([1, 1], [[[2]]]), "lists", 0),
+        (([1, 1], [[[1], [0, 6]]]), "lists", 0),
+        (([1, 1], [[[-1]]]), "lists", 0),
+        (([1, 1], [[[0, 0]]]), "lists", 0),
+        (([1, 1], [[[0], [0]]]), "lists", 0),
+        (([1, 1], [[[0], [1]], [[0, 1], [0]], [[0], [0]]]), "lists", 1),
+        (([1] * 6, [[[0], [1], [2], [3], [4], [5]]]), "lists", 0),
+        (([1] * 6, [[], [[0], [1], [2], [3], [4], []]]), "lists", 1),
+    ]
+    return rows
+
+
+def edge_wishes():
+    """Wishes at the edges of what the document lets be."""
+    return [
+        ([0], [[]]),
+        ([7], [[[0]]]),
+        ([1], [[[0]]] * 7),
+        ([7, 0, 7, 0, 7, 0], [[[5, 4], [3], [2], [1], [0]]]),
+        ([0, 7], [[], [], [], [], [], [], [[1], [0]]]),
+        ([1] * 6, [[[0, 1, 2, 3, 4, 5]], [[0], [1], [2], [3], [4]]]),
+    ]
+
+
+def some_list(source, things):
+    """An asker's list, drawn by a source of numbers."""
+    left = source.sample(range(things), source.randint(0, things))
+    ranks = []
+    while left and len(ranks) < 5:
+        size = source.randint(1, len(left))
+        ranks.append(left[:size])
+        left = left[size:]
+    return ranks
+
+
+def some_wishes(many, most_askers=4, most_things=4):
+    """So many wishes, the same ones each time."""
+    source = random.Random(20)
+    told = edge_wishes()[:2] + [copy.deepcopy(BASE)]
+    while len(told) < many:
+        things = source.randint(1, most_things)
+        copies = [source.choice([0, 1, 1, 1, 2, 3]) for thing in range(things)]
+        lists = [some_list(source, things) for asker in range(source.randint(1, most_askers))]
+        told.append((copies, lists))
+    return told
+
+
+def some_aims(wishes):
+    """Aims for wishes, the same ones each time: all orders, with old and turns and without."""
+    source = random.Random(7)
+    things = len(wishes[0])
+    askers = len(wishes[1])
+    told = []
+    for order in ("firsts", "full", "lasts"):
+        old = [source.choice([None] + list(range(things))) for asker in range(askers)]
+        turns = source.sample(range(askers), askers)
+        told += [(order, None, []), (order, old, []), (order, None, turns), (order, old, turns[:2])]
+    return told
+
+
+def all_dealings(wishes):
+    """All dealings of wishes, gone through one by one."""
+    copies, lists = wishes
+    choices = [[None] + [thing for rank in ranks for thing in rank] for ranks in lists]
+    return [list(row) for row in itertools.product(*choices)
+            if all(row.count(thing) <= many for thing, many in enumerate(copies))]
+
+
+def refusal(call, *handed):
+    """The refusal of a call, None where it isn't refused."""
+    try:
+        call(*handed)
+    except errors.DealError as refused:
+        return refused
+    return None
+
+
+def same_each_time(test, call, *handed):
+    """What a call tells, having looked that it changes nothing handed in, and that what it tells is the asker's own."""
+    ahead = repr(handed)
+    told = call(*handed)
+    first = repr(told)
+    test.assertEqual(repr(handed), ahead)
+    spoil(told)
+    test.assertEqual(repr(handed), ahead)
+    again = call(*handed)
+    test.assertEqual(repr(again), first)
+    kept = copy.deepcopy(handed)
+    spoil(handed)
+    test.assertEqual(repr(again), first)
+    test.assertEqual(repr(call(*kept)), first)
+    return again
+
+
+def spoil(thing):
+    """Change each list within a thing."""
+    if isinstance(thing, (list, tuple)):
+        for part in list(thing):
+            spoil(part)
+    if isinstance(thing, list):
+        thing.append("spoiled")
+        thing.reverse()

@@ -1,0 +1,1 @@
+"""Wishdeal: things dealt to askers by their wishes, rank by rank."""
