@@ -152,6 +152,14 @@ def refusal(call, *handed):
     return None
 
 
+def all_refused(test, kind, values, calls):
+    """Look that each call, a tuple of a function and what it is handed, is refused by the very class with its values."""
+    for call, *handed in calls:
+        told = refusal(call, *handed)
+        test.assertIs(type(told), kind, repr((call, handed)))
+        test.assertEqual({name: getattr(told, name) for name in values}, values, repr((call, handed)))
+
+
 def same_each_time(test, call, *handed):
     """What a call tells, having looked that it changes nothing handed in, and that what it tells is the asker's own."""
     ahead = repr(handed)
@@ -177,3 +185,77 @@ def spoil(thing):
     if isinstance(thing, list):
         thing.append("spoiled")
         thing.reverse()
+
+
+def wrong_aims():
+    """Things of any kind that are no aims for BASE, each with the part that it is refused with."""
+    rows = [(thing, "aim") for thing in anything() if not (isinstance(thing, tuple) and len(thing) == 3)]
+    rows += [
+        (["firsts", None, []], "aim"),
+        (("firsts", None), "aim"),
+        (("firsts", None, [], None), "aim"),
+        ((1, 2, 3), "order"),
+        ((None, 0, 0), "order"),
+        (("", None, []), "order"),
+        (("first", None, []), "order"),
+        (("Firsts", None, []), "order"),
+        (("firsts ", None, []), "order"),
+        ((b"firsts", None, []), "order"),
+        ((["firsts"], None, []), "order"),
+        ((("firsts",), None, []), "order"),
+        (("order", 0, 0), "order"),
+        (("full", [], []), "old"),
+        (("full", [None] * 3, []), "old"),
+        (("full", [None] * 5, []), "old"),
+        (("full", (None,) * 4, []), "old"),
+        (("full", False, None), "old"),
+        (("full", 0, []), "old"),
+        (("full", "abcd", []), "old"),
+        (("full", {0: 0, 1: 1, 2: 2, 3: 2}, []), "old"),
+        (("full", [0, 1, 2, 3], []), "old"),
+        (("full", [0, 1, 2, -1], []), "old"),
+        (("full", [None, None, None, True], []), "old"),
+        (("full", [False, None, None, None], None), "old"),
+        (("full", [None, "0", None, None], []), "old"),
+        (("full", [None, [0], None, None], []), "old"),
+        (("lasts", None, None), "turns"),
+        (("lasts", [None] * 4, ()), "turns"),
+        (("lasts", None, (0,)), "turns"),
+        (("lasts", None, "0"), "turns"),
+        (("lasts", None, {0: 0}), "turns"),
+        (("lasts", None, 0), "turns"),
+        (("lasts", None, [4]), "turns"),
+        (("lasts", None, [0, -1]), "turns"),
+        (("lasts", None, [0, 0]), "turns"),
+        (("lasts", None, [3, 2, 1, 0, 3]), "turns"),
+        (("lasts", None, [True]), "turns"),
+        (("lasts", None, [1, False]), "turns"),
+        (("lasts", None, [None]), "turns"),
+        (("lasts", None, ["0"]), "turns"),
+        (("lasts", None, [[0]]), "turns"),
+    ]
+    return rows
+
+
+def all_ways(wishes, dealing):
+    """All ways for a dealing, gone through one by one by what the document says of them."""
+    copies, lists = wishes
+    takings = []
+    for asker, ranks in enumerate(lists):
+        choices = [None] + [thing for rank in ranks for thing in rank]
+        takings += [(asker, thing) for thing in choices if thing != dealing[asker]]
+    told = []
+    for size in range(1, len(lists) + 1):
+        for row in itertools.permutations(takings, size):
+            if len({asker for asker, thing in row}) == size and ends_and_links(copies, dealing, row):
+                told.append(list(row))
+    return told
+
+
+def ends_and_links(copies, dealing, row):
+    """Whether takings of unlike askers hang together, and end as a way may."""
+    for (asker, thing), (follower, taken) in zip(row, row[1:]):
+        if thing is None or dealing[follower] is None or dealing[follower] != thing:
+            return False
+    end = row[-1][1]
+    return end is None or dealing.count(end) < copies[end] or end == dealing[row[0][0]]

@@ -45,6 +45,13 @@ class Figures(unittest.TestCase):
                      "- 1", "-1-", "1,0", "/1", ":1"):
             self.refused(text)
 
+    def test_other_signs(self):
+        for number in [9, 10] + list(range(32, 127)):
+            sign = chr(number)
+            if sign not in "0123456789":
+                for text in (sign, "1" + sign, "1" + sign + "1", "-" + sign):
+                    self.refused(text)
+
     def test_other_kinds(self):
         for thing in others_than(lambda thing: isinstance(thing, str) and thing == "0"):
             self.refused(thing)

@@ -3,7 +3,7 @@
 import copy
 import unittest
 
-from tests.helper import BASE, anything, edge_wishes, refusal, same_each_time, some_wishes, wrong_wishes
+from tests.helper import BASE, all_refused, anything, edge_wishes, refusal, same_each_time, some_wishes, wrong_wishes
 from wishdeal.dealings import copies_left, counts_of, what_is_wrong
 from wishdeal.errors import NoWishes
 from wishdeal.wishes import all_wishes, longest, look_at_wishes, rank_of
@@ -32,9 +32,7 @@ class Looking(unittest.TestCase):
 
     def test_what_is_none_is_refused_with_its_values(self):
         for thing, part, number in wrong_wishes():
-            told = refusal(look_at_wishes, thing)
-            self.assertIs(type(told), NoWishes, repr(thing))
-            self.assertEqual((told.part, told.number), (part, number), repr(thing))
+            all_refused(self, NoWishes, {"part": part, "number": number}, [(look_at_wishes, thing)])
 
     def test_anything_in_any_place(self):
         for odd in anything():
@@ -58,11 +56,12 @@ class Looking(unittest.TestCase):
             self.assertEqual(repr(thing), ahead)
 
 
-# Of the odd things put into each place, these make wishes, and these are lists of which a part is wrong.
+# Of the odd things put into each place, these make wishes.
 LET_BY = [repr(thing) for thing in (
     ([0], [[]]), ([1, 2], [[]]), ([1, 0], [[]]), ([1, 1], [[]]), ([1, 7], [[]]),
     ([1], [[]]), ([1], [[], []]), ([1], [[[0]]]), ([1], [[], [[0]]]),
 )]
+# Of these the list itself is so, but a part of it isn't.
 WRONG_WITHIN = [repr((odd, [[]])) for odd in anything() if isinstance(odd, list) and odd]
 WRONG_WITHIN += [repr(([1], odd)) for odd in anything() if isinstance(odd, list) and odd]
 
@@ -108,10 +107,7 @@ class Refused(unittest.TestCase):
             for odd in (None, "a", [], 0, -1, 99):
                 calls = [(rank_of, thing, odd, odd), (longest, thing), (all_wishes, thing)]
                 calls += [(what_is_wrong, thing, odd), (counts_of, thing, odd), (copies_left, thing, odd)]
-                for call, *handed in calls:
-                    told = refusal(call, *handed)
-                    self.assertIs(type(told), NoWishes, repr((call, thing)))
-                    self.assertEqual((told.part, told.number), (part, number), repr((call, thing)))
+                all_refused(self, NoWishes, {"part": part, "number": number}, calls)
 
 
 if __name__ == "__main__":
