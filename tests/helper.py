@@ -153,7 +153,7 @@ def refusal(call, *handed):
 
 
 def all_refused(test, kind, values, calls):
-    """Look that each call, a tuple of a function and what it is handed, is refused by the very class with its values."""
+    """Look that each call, a tuple of a function and what it is handed, is refused by the class with its values."""
     for call, *handed in calls:
         told = refusal(call, *handed)
         test.assertIs(type(told), kind, repr((call, handed)))
@@ -259,3 +259,42 @@ def ends_and_links(copies, dealing, row):
             return False
     end = row[-1][1]
     return end is None or dealing.count(end) < copies[end] or end == dealing[row[0][0]]
+
+
+def wishes_ahead(test, calls):
+    """Look that wishes that are none are refused ahead of all else, by calls (function, how much else it is handed)."""
+    for thing, part, number in wrong_wishes():
+        for odd in (None, "a", -1, [], ("none", 1, 2)):
+            rows = [(call, thing) + (odd,) * more for call, more in calls]
+            all_refused(test, errors.NoWishes, {"part": part, "number": number}, rows)
+
+
+def aims_ahead(test, calls):
+    """Look that aims that are none are refused next, by calls (function, how much else it is handed)."""
+    for thing, part in wrong_aims():
+        for odd in (None, "a", -1, [], (1, [], [])):
+            rows = [(call, copy.deepcopy(BASE), thing) + (odd,) * more for call, more in calls]
+            all_refused(test, errors.NoAim, {"part": part}, rows)
+
+
+def great_wishes():
+    """Wishes at the greatest sizes: six things, seven copies, seven askers, five ranks."""
+    turned = [[(thing + asker) % 6 for thing in range(6)] for asker in range(7)]
+    alike = [[0, 1, 2, 3, 4, 5]]
+    ranked = [[[a], [b], [c], [d], [e, f]] for a, b, c, d, e, f in turned]
+    return [
+        ([7] * 6, [copy.deepcopy(alike) for asker in range(7)]),
+        ([1] * 6, [copy.deepcopy(alike) for asker in range(7)]),
+        ([7] * 6, ranked),
+        ([1] * 6, copy.deepcopy(ranked)),
+        ([1, 0, 2, 0, 1, 7], copy.deepcopy(ranked)),
+        ([1, 1, 1, 1, 1, 2], [[[5], [4], [3], [2], [1, 0]] for asker in range(7)]),
+        ([2, 1, 1, 1, 1, 0], [[[a, b], [c, d], [e]] for a, b, c, d, e, f in turned]),
+        ([7, 7, 7, 0, 0, 0], [[[3], [4], [5], [0, 1], [2]] for asker in range(7)]),
+    ]
+
+
+def served_within(wishes, ranks, dealing):
+    """How many askers a dealing serves within so many ranks."""
+    return len([asker for asker, got in enumerate(dealing)
+                if got is not None and any(got in rank for rank in wishes[1][asker][:ranks])])

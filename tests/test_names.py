@@ -4,7 +4,7 @@ import string
 import unittest
 
 from tests.helper import others_than
-from wishdeal.names import is_name, is_number_below, is_whole
+from wishdeal.names import is_name, is_number, is_number_below, is_whole
 
 
 class Whole(unittest.TestCase):
@@ -19,6 +19,11 @@ class Whole(unittest.TestCase):
     def test_other_kinds_are_none(self):
         for thing in others_than(lambda thing: type(thing) is int):
             self.assertIs(is_whole(thing), False, repr(thing))
+
+    def test_numbers_from_0_on(self):
+        self.assertEqual([number for number in range(-2, 3) if is_number(number)], [0, 1, 2])
+        for thing in others_than(lambda thing: type(thing) is int):
+            self.assertIs(is_number(thing), False, repr(thing))
 
     def test_numbers_below(self):
         self.assertEqual([number for number in range(-2, 6) if is_number_below(number, 3)], [0, 1, 2])

@@ -10,6 +10,11 @@ def is_whole(thing):
     return isinstance(thing, int) and not isinstance(thing, bool)
 
 
+def is_number(thing):
+    """Whether anything is a whole number from 0 on."""
+    return is_whole(thing) and thing >= 0
+
+
 def is_number_below(thing, many):
     """Whether anything is a whole number from 0 to below many."""
     return is_whole(thing) and 0 <= thing < many

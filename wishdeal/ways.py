@@ -43,14 +43,19 @@ def is_way(wishes, dealing, thing):
     return last is None or left[last] > 0 or dealing[thing[0][0]] == last
 
 
-def done(wishes, dealing, way):
-    """The dealing behind a way, or NoWay, of anything as way."""
-    if not is_way(wishes, dealing, way):
-        raise NoWay("no way for the dealing")
+def behind_way(dealing, way):
+    """The dealing behind what is known to be a way."""
     told = list(dealing)
     for asker, taken in way:
         told[asker] = taken
     return told
+
+
+def done(wishes, dealing, way):
+    """The dealing behind a way, or NoWay, of anything as way."""
+    if not is_way(wishes, dealing, way):
+        raise NoWay("no way for the dealing")
+    return behind_way(dealing, way)
 
 
 def gain_of(wishes, aim, dealing, way):
