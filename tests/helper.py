@@ -5,6 +5,8 @@ import itertools
 import random
 
 from wishdeal import errors
+from wishdeal.webs import web_of
+from wishdeal.worths import worth_of, worth_of_wish
 
 
 def anything():
@@ -298,3 +300,45 @@ def served_within(wishes, ranks, dealing):
     """How many askers a dealing serves within so many ranks."""
     return len([asker for asker, got in enumerate(dealing)
                 if got is not None and any(got in rank for rank in wishes[1][asker][:ranks])])
+
+
+def place_by_place(dealing):
+    """What dealings are sorted by: None ahead of numbers."""
+    return [-1 if got is None else got for got in dealing]
+
+
+def best_ones(wishes, aim):
+    """All best dealings, sorted place by place, by going through all dealings."""
+    dealings = all_dealings(wishes)
+    worths = [worth_of(wishes, aim, dealing) for dealing in dealings]
+    return sorted([dealing for dealing, worth in zip(dealings, worths) if worth == max(worths)], key=place_by_place)
+
+
+def tight_by_words(wishes, aim, paper):
+    """The tight wishes of a paper, by the words of the document."""
+    return [(asker, thing) for asker, ranks in enumerate(wishes[1]) for thing in sorted(sum(ranks, []))
+            if paper[1][asker] + paper[2][thing] == paper[0] * worth_of_wish(wishes, aim, asker, thing)]
+
+
+def turned_there_and_back(source, wishes, aim):
+    """A web that was found with askers and things called otherwise."""
+    askers = source.sample(range(len(wishes[1])), len(wishes[1]))
+    things = source.sample(range(len(wishes[0])), len(wishes[0]))
+    order, old, turns = aim
+    copies = [wishes[0][thing] for thing in things]
+    lists = [[[things.index(thing) for thing in rank] for rank in wishes[1][asker]] for asker in askers]
+    if old is not None:
+        old = [None if old[asker] is None else things.index(old[asker]) for asker in askers]
+    (times, asks, prices), dealings = web_of((copies, lists), (order, old, [askers.index(asker) for asker in turns]))
+    back = [[dealing[askers.index(asker)] for asker in range(len(askers))] for dealing in dealings]
+    back = [[None if got is None else things[got] for got in dealing] for dealing in back]
+    paper = (times, [asks[askers.index(asker)] for asker in range(len(askers))],
+             [prices[things.index(thing)] for thing in range(len(things))])
+    return (paper, back)
+
+
+def together(one, other):
+    """A web of two webs: papers may be summed up, dealings told one behind the other."""
+    paper = (one[0][0] + other[0][0], [sum(row) for row in zip(one[0][1], other[0][1])],
+             [sum(row) for row in zip(one[0][2], other[0][2])])
+    return (paper, other[1] + one[1])

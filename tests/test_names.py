@@ -4,7 +4,7 @@ import string
 import unittest
 
 from tests.helper import others_than
-from wishdeal.names import is_name, is_number, is_number_below, is_whole
+from wishdeal.names import above_nought, are_numbers, is_name, is_number, is_number_below, is_whole
 
 
 class Whole(unittest.TestCase):
@@ -24,6 +24,15 @@ class Whole(unittest.TestCase):
         self.assertEqual([number for number in range(-2, 3) if is_number(number)], [0, 1, 2])
         for thing in others_than(lambda thing: type(thing) is int):
             self.assertIs(is_number(thing), False, repr(thing))
+
+    def test_so_many_numbers(self):
+        for things, many, told in (([], 0, True), ([], 1, False), ([0, 7], 2, True), ((0, 7), 2, True), ([0], 2, False),
+                                   ([0, -1], 2, False), ([0, True], 2, False), ((None,), 1, False)):
+            self.assertIs(are_numbers(things, many), told, things)
+
+    def test_places_of_numbers_above_0(self):
+        self.assertEqual(above_nought([0, 3, 0, 10 ** 59, 1]), [1, 3, 4])
+        self.assertEqual(above_nought([]), [])
 
     def test_numbers_below(self):
         self.assertEqual([number for number in range(-2, 6) if is_number_below(number, 3)], [0, 1, 2])

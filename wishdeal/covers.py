@@ -1,14 +1,9 @@
 """Covers: askers and things without which no wish of so many ranks is left."""
 
 from wishdeal.levels import worths_within
-from wishdeal.names import is_number_below
+from wishdeal.names import above_nought, is_number_below
 from wishdeal.search import best_by, paper_for
 from wishdeal.wishes import look_at_wishes
-
-
-def above_nought(numbers):
-    """The places at which numbers above 0 stand, rising."""
-    return [place for place, number in enumerate(numbers) if number > 0]
 
 
 def cover_for(wishes, ranks):

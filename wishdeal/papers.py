@@ -1,15 +1,13 @@
 """Papers: asks and prices by which it is seen that no dealing is worth more than they come to together."""
 
-from wishdeal.names import is_number, is_whole
+from wishdeal.names import are_numbers, is_whole
 from wishdeal.wishes import look_at_wishes
 from wishdeal.worths import all_worths
 
 
 def is_number_list(thing, many):
     """Whether anything is a list of so many whole numbers from 0 on."""
-    if not isinstance(thing, list) or len(thing) != many:
-        return False
-    return all([is_number(number) for number in thing])
+    return isinstance(thing, list) and are_numbers(thing, many)
 
 
 def has_paper_form(wishes, thing):
