@@ -342,3 +342,75 @@ def together(one, other):
     paper = (one[0][0] + other[0][0], [sum(row) for row in zip(one[0][1], other[0][1])],
              [sum(row) for row in zip(one[0][2], other[0][2])])
     return (paper, other[1] + one[1])
+
+
+def some_changes(source, wishes):
+    """Changes of wishes, drawn by a source of numbers: each kind that can be, also such that change nothing."""
+    copies, lists = wishes
+    things = len(copies)
+    told = []
+    for asker, ranks in enumerate(lists):
+        told += [("list", asker, some_list(source, things)), ("list", asker, []), ("list", asker, copy.deepcopy(ranks))]
+        if len(lists) > 1:
+            told.append(("go", asker))
+    for thing, many in enumerate(copies):
+        told += [("copies", thing, number) for number in sorted({0, max(many - 1, 0), many, min(many + 1, 7), 7})]
+    if len(lists) < 7:
+        told += [("come", some_list(source, things)), ("come", [])]
+    if things < 6:
+        told += [("thing", 0), ("thing", source.randint(1, 7))]
+    return told
+
+
+def by_change(wishes, change):
+    """The wishes behind a change that is one, by the words of the document."""
+    copies, lists = copy.deepcopy(wishes)
+    word, *rest = copy.deepcopy(change)
+    if word == "list":
+        lists[rest[0]] = rest[1]
+    if word == "copies":
+        copies[rest[0]] = rest[1]
+    if word == "come":
+        lists.append(rest[0])
+    if word == "go":
+        del lists[rest[0]]
+    if word == "thing":
+        copies.append(rest[0])
+    return (copies, lists)
+
+
+def wrong_changes():
+    """Things of any kind that are no changes of BASE."""
+    told = anything()
+    for word in ("list", "copies", "come", "go", "thing"):
+        told += [word, (word,), [word, 0], [word, 0, 1], (word, 0, [], None), (word, 0, 1, 2), (word, None), (word, True)]
+        told += [(word, None, None), (word, -1), (word, -1, []), (word, -1, 1), (word, 8), (word, 10 ** 59)]
+        told += [(word, "0"), (word, "0", []), (word, [0], []), (word, [0], 1), (word, (0,), 1), (word, {}), (word, "")]
+        told += [(word, False, []), (word, False, 1), (word, 4, []), (word, 3, 8), (word, 10 ** 59, []), (word, 4, 1)]
+    told += [("list", 0, ranks) for ranks in wrong_lists()]
+    told += [("come", ranks) for ranks in wrong_lists()]
+    for many in [-1, 8, 10 ** 59] + others_than(lambda thing: type(thing) is int):
+        told += [("copies", 0, many), ("thing", many)]
+    for number in [-1, -4, 10 ** 59] + others_than(lambda thing: type(thing) is int):
+        told += [("list", number, []), ("copies", number, 1), ("go", number)]
+    told += [("list", 4, []), ("copies", 3, 1), ("go", 4), ("list", 0, 1), ("copies", 0, []), ("come", 0), ("go", [])]
+    told += [("thing", []), ("go", 0, 0), ("come", [], []), ("thing", 1, 1), ("list", []), ("copies", 1), ("come", 0, [])]
+    told += [("lists", 0, []), ("List", 0, []), ("go ", 0), (b"go", 0), (["go"], 0), (("go",), 0), (0, "go"), ("", 0)]
+    return told + [(None, 0), (None, 0, []), ("copy", 0, 1), ("went", 0), ("rank", 0, []), ({}, 0), (True, 0, 1)]
+
+
+def wrong_lists():
+    """Things of any kind that are no list of an asker for three things."""
+    told = [thing for thing in anything() if thing not in ([], [[0]])]
+    told += [[[3]], [[-1]], [[0], [3]], [[0, 0]], [[0], [0]], [[0], []], [[]], [[True]], [[False]], [["0"]], [[None]]]
+    return told + [[(0,)], ([0],), [0], "0", [[0], (1,)], [[0, 1], [2], [1]], [[10 ** 59]], [[0], None], {0: [0]}]
+
+
+def some_numberings(source, wishes):
+    """Numberings of the askers and the things: as they are, turned about, and drawn ones."""
+    askers = list(range(len(wishes[1])))
+    things = list(range(len(wishes[0])))
+    told = [(askers, things), (askers[::-1], things[::-1]), (askers[1:] + askers[:1], things), (askers, things[::-1])]
+    for time in range(2):
+        told.append((source.sample(askers, len(askers)), source.sample(things, len(things))))
+    return copy.deepcopy(told)

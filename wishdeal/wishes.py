@@ -53,6 +53,12 @@ def look_at_wishes(thing):
     look_at_lists(lists, len(copies))
 
 
+def copied_wishes(wishes):
+    """The same wishes, each list of them a new one."""
+    copies, lists = wishes
+    return (list(copies), [[list(rank) for rank in ranks] for ranks in lists])
+
+
 def rank_in(ranks, thing):
     """The number of the rank in which a whole number stands, 0 where it stands in none (None, too)."""
     for number, rank in enumerate(ranks, start=1):
