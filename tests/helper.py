@@ -414,3 +414,48 @@ def some_numberings(source, wishes):
     for time in range(2):
         told.append((source.sample(askers, len(askers)), source.sample(things, len(things))))
     return copy.deepcopy(told)
+
+
+def some_names(source, many):
+    """So many unlike names, drawn by a source of numbers, of one letter and of eight among them."""
+    told = []
+    while len(told) < many:
+        name = "".join(source.choice("abcxyz") for letter in range(source.choice([1, 2, 3, 8])))
+        if name not in told:
+            told.append(name)
+    return told
+
+
+def some_book(source, wishes):
+    """A book of wishes, with drawn names."""
+    return copy.deepcopy((wishes, some_names(source, len(wishes[0])), some_names(source, len(wishes[1]))))
+
+
+BOOK = (([2, 1, 0], [[[0, 1], [2]], [[1], [0]], [], [[2]]]), ["fig", "pear", "plum"], ["ann", "bob", "cy", "fig"])
+
+
+def wrong_books():
+    """Things of any kind that are no book."""
+    wishes, things, askers = BOOK
+    told = anything() + [list(BOOK), BOOK[:2], BOOK + (None,), (wishes,), (None, things, askers), [BOOK]]
+    told += [(thing, ["a"], ["b"]) for thing, part, number in wrong_wishes()]
+    for odd in anything() + [things[:2], things + ["a"], things + things[:1], tuple(things), ["fig", "pear", "fig"],
+                             ["fig", "pear", "Plum"],
+                             ["fig", "pear", ""], ["fig", "pear", "abcdefghi"], ["fig", "pear", "a b"],
+                             ["fig", "pear", "a1"], ["fig", "pear", None], ["fig", "pear", ["a"]],
+                             ["fig", "pear", b"a"], ["fig", "pear", 1], ["fig", "pear", "a\n"], ["fig", "pear", "-"],
+                             {"fig": 0, "pear": 1, "plum": 2}, "abc"]:
+        told.append((wishes, odd, askers))
+    for odd in anything() + [askers[:3], askers + ["a"], askers + askers[3:], tuple(askers), "abcd",
+                             ["ann", "bob", "cy", "ann"],
+                             ["ann", "bob", "cy", "Di"], ["ann", "bob", "cy", None], ["ann", "bob", "cy", "abcdefghi"],
+                             ["ann", "bob", "cy", True], ["ann", "bob", "cy", ""], ["ann", "bob", "cy", "a="]]:
+        told.append((wishes, things, odd))
+    return told
+
+
+def refused_with(test, kind, values, call, *handed):
+    """Look that a call is refused so, and that nothing handed in is changed by it."""
+    ahead = repr(handed)
+    all_refused(test, kind, values, [(call, *handed)])
+    test.assertEqual(repr(handed), ahead)

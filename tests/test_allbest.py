@@ -70,8 +70,8 @@ class AllBest(unittest.TestCase):
                 self.assertEqual(sure(wishes, aim, web), sorted(set.intersection(*dealt)))
                 for asker in range(len(wishes[1])):
                     got = [dealing[asker] for dealing in told]
-                    self.assertEqual(shares(wishes, aim, asker),
-                                     [(what, got.count(what)) for what in sorted(set(got), key=lambda x: place_by_place([x]))])
+                    whats = [what for what in [None] + list(range(len(wishes[0]))) if what in got]
+                    self.assertEqual(shares(wishes, aim, asker), [(what, got.count(what)) for what in whats])
 
     def test_two_hundred_are_told(self):
         for wishes, order in JUST_TOLD:
