@@ -3,7 +3,8 @@
 import copy
 import unittest
 
-from tests.helper import BASE, all_dealings, anything, edge_wishes, others_than, same_each_time, some_wishes
+from tests.helper import (BASE, all_dealings, anything, edge_wishes, others_than, same_each_time, some_wishes,
+                          wishes_ahead)
 from wishdeal.dealings import copies_left, counts_of, what_is_wrong
 from wishdeal.wishes import rank_of
 
@@ -100,6 +101,9 @@ class Counts(unittest.TestCase):
         for call in (counts_of, copies_left):
             for dealing in ([None] * 4, [0, 0, None, None]):
                 same_each_time(self, call, copy.deepcopy(BASE), dealing)
+
+    def test_wishes_are_refused_ahead_of_all_else(self):
+        wishes_ahead(self, [(what_is_wrong, 1), (counts_of, 1), (copies_left, 1)])
 
 
 if __name__ == "__main__":

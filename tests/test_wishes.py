@@ -6,7 +6,7 @@ import unittest
 from tests.helper import BASE, all_refused, anything, edge_wishes, refusal, same_each_time, some_wishes, wrong_wishes
 from wishdeal.dealings import copies_left, counts_of, what_is_wrong
 from wishdeal.errors import NoWishes
-from wishdeal.wishes import all_wishes, longest, look_at_wishes, rank_of
+from wishdeal.wishes import all_wishes, copied_wishes, longest, look_at_wishes, rank_of
 
 
 class Looking(unittest.TestCase):
@@ -108,6 +108,12 @@ class Refused(unittest.TestCase):
                 calls = [(rank_of, thing, odd, odd), (longest, thing), (all_wishes, thing)]
                 calls += [(what_is_wrong, thing, odd), (counts_of, thing, odd), (copies_left, thing, odd)]
                 all_refused(self, NoWishes, {"part": part, "number": number}, calls)
+
+
+class Copied(unittest.TestCase):
+    def test_the_same_in_new_lists(self):
+        for wishes in edge_wishes() + some_wishes(20):
+            self.assertEqual(same_each_time(self, copied_wishes, copy.deepcopy(wishes)), wishes)
 
 
 if __name__ == "__main__":
